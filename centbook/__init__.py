@@ -1,0 +1,1 @@
+"""Centbook: whole cents for exact charges, line by line and day by day."""

@@ -1,0 +1,34 @@
+"""Exact calculation with fractions, which are pairs (over, under) in lowest terms."""
+
+from math import gcd
+
+
+def lowest(over, under):
+    """The fraction over / under in lowest terms; under is not 0."""
+    shared = gcd(over, under)
+    if under < 0:
+        shared = -shared
+    return over // shared, under // shared
+
+
+def pair_sum(one, other):
+    """The sum of two fractions."""
+    return lowest(one[0] * other[1] + other[0] * one[1], one[1] * other[1])
+
+
+def pair_total(pairs):
+    """The sum of all fractions of a list."""
+    total = (0, 1)
+    for pair in pairs:
+        total = pair_sum(total, pair)
+    return total
+
+
+def rounded_down(pair):
+    """The greatest integer that is at most the fraction."""
+    return pair[0] // pair[1]
+
+
+def rounded_up(pair):
+    """The least integer that is at least the fraction."""
+    return -(-pair[0] // pair[1])

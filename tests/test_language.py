@@ -1,0 +1,194 @@
+"""The parts of the language rules that are easy to check, and the interface as it is listed."""
+
+import ast
+import builtins
+import pathlib
+import unittest
+
+PACKAGE = pathlib.Path(__file__).resolve().parent.parent / "centbook"
+FILES = sorted(path for path in PACKAGE.iterdir() if path.name != "__pycache__")
+LIBRARY = {
+    "math": {"gcd", "lcm", "isqrt", "comb", "perm", "factorial"},
+    "heapq": {"heappush", "heappop", "heapify", "heapreplace", "heappushpop"},
+    "itertools": {"product", "combinations", "permutations", "chain", "accumulate", "pairwise", "islice", "zip_longest"},
+    "collections": {"defaultdict"},
+}
+BUILTINS = set(
+    "len range enumerate zip min max sum abs sorted reversed int str bool bytes list tuple dict set frozenset isinstance"
+    " ord repr any all divmod pow getattr hasattr setattr iter next map super property staticmethod classmethod"
+    " Exception ValueError TypeError KeyError IndexError LookupError ZeroDivisionError ArithmeticError OverflowError"
+    " RuntimeError NotImplementedError AttributeError StopIteration NotImplemented".split()
+)
+METHODS = set(
+    "append clear copy count endswith extend find get index insert isalnum isalpha isdigit islower isspace isupper"
+    " items join keys ljust lower lstrip partition pop remove replace reverse rfind rjust rpartition rsplit rstrip"
+    " setdefault split splitlines startswith strip update upper values zfill bit_length removeprefix removesuffix".split()
+)
+NOT_USED = (
+    ast.Global, ast.AsyncFunctionDef, ast.Await, ast.AsyncFor, ast.AsyncWith, ast.GeneratorExp, ast.Div, ast.MatMult, ast.Try,
+)
+
+# For each module its functions with their arguments, and its classes with the arguments of their methods.
+INTERFACE = {
+    "errors": {
+        "CentError": {}, "PaperError": {}, "BookError": {}, "TextError": {}, "InvalidPaper": {"__init__": "word at"},
+        "UnknownLine": {"__init__": "name"}, "InvalidStep": {"__init__": "step reason"}, "InvalidAmount": {"__init__": "value"},
+        "NothingToUndo": {"__init__": "steps"}, "InvalidText": {"__init__": "row field"}, "InvalidCommand": {"__init__": "text"},
+    },
+    "amounts": {"Amount": {"__init__": "over under=1", "compared": "other"}},
+    "kinds": {name: "thing" for name in ("is_integer", "is_number", "is_name", "is_fraction", "is_state", "is_sheet")},
+    "sheettexts": {"sheet_text": "sheet"},
+    "sheetreadings": {"sheet_read": "text", "fraction_read": "text"},
+}
+
+
+def trees():
+    for path in FILES:
+        yield path, ast.parse(path.read_text(encoding="utf-8"))
+
+
+def names_bound(tree):
+    """All names of functions, classes, parameters and variables of a file, but not those of methods."""
+    methods = {id(each) for one in ast.walk(tree) if isinstance(one, ast.ClassDef) for each in one.body}
+    for node in ast.walk(tree):
+        if isinstance(node, (ast.FunctionDef, ast.ClassDef)) and id(node) not in methods:
+            yield node.name
+        elif isinstance(node, ast.arg):
+            yield node.arg
+        elif isinstance(node, ast.Name) and isinstance(node.ctx, (ast.Store, ast.Del)):
+            yield node.id
+
+
+def arguments_of(node):
+    """The arguments of a function as text, without self."""
+    found = []
+    plain = node.args.args
+    defaults = [None] * (len(plain) - len(node.args.defaults)) + node.args.defaults
+    for one, default in zip(plain, defaults):
+        if one.arg != "self":
+            found.append(one.arg if default is None else f"{one.arg}={ast.unparse(default)}")
+    if node.args.vararg:
+        found.append("*" + node.args.vararg.arg)
+    if node.args.kwonlyargs:
+        found.extend(["*", *[one.arg for one in node.args.kwonlyargs]])
+    return " ".join(found)
+
+
+class LanguageTest(unittest.TestCase):
+    def test_files(self):
+        for path in FILES:
+            self.assertEqual(path.suffix, ".py")
+            self.assertTrue(path.stem.replace("_", "").isalnum() and path.stem == path.stem.lower())
+        self.assertIn(PACKAGE / "__init__.py", FILES)
+        self.assertLessEqual(len(FILES), 100)
+
+    def test_sizes_and_characters(self):
+        for path in FILES:
+            text = path.read_text(encoding="utf-8")
+            self.assertTrue(all(" " <= letter <= "~" or letter == "\n" for letter in text), path)
+            rows = text.split("\n")
+            self.assertLessEqual(len(rows), 400, path)
+            self.assertLessEqual(max(map(len, rows)), 120, path)
+
+    def test_functions_are_short(self):
+        for path, tree in trees():
+            for node in ast.walk(tree):
+                if isinstance(node, ast.FunctionDef):
+                    self.assertLessEqual(node.end_lineno - node.lineno + 1, 40, (path, node.name))
+
+    def test_imports(self):
+        needs = {}
+        for path, tree in trees():
+            needs[path.stem] = []
+            for node in ast.walk(tree):
+                self.assertNotIsInstance(node, ast.Import)
+                if not isinstance(node, ast.ImportFrom):
+                    continue
+                self.assertIn(node, tree.body)
+                self.assertTrue(all(each.asname is None for each in node.names))
+                names = {each.name for each in node.names}
+                if node.module in LIBRARY:
+                    self.assertLessEqual(names, LIBRARY[node.module])
+                    continue
+                package, module = node.module.split(".")
+                self.assertEqual((package, node.level), ("centbook", 0))
+                needs[path.stem].append(module)
+                there = ast.parse((PACKAGE / f"{module}.py").read_text(encoding="utf-8"))
+                defined = {each.name for each in there.body if isinstance(each, (ast.FunctionDef, ast.ClassDef))}
+                self.assertLessEqual(names, defined)
+        done = set()
+        while len(done) < len(needs):
+            ready = {stem for stem in needs if stem not in done and set(needs[stem]) <= done}
+            self.assertTrue(ready, "files import from each other")
+            done |= ready
+
+    def test_statements_and_names(self):
+        for path, tree in trees():
+            taken = {each.name for node in tree.body if isinstance(node, ast.ImportFrom) for each in node.names}
+            taken |= {node.name for node in tree.body if isinstance(node, ast.ClassDef)}
+            for node in ast.walk(tree):
+                self.assertNotIsInstance(node, NOT_USED, path)
+                if isinstance(node, ast.Name) and hasattr(builtins, node.id):
+                    self.assertIn(node.id, BUILTINS, path)
+                if isinstance(node, ast.Constant):
+                    self.assertNotIsInstance(node.value, (float, complex, bytes))
+                    self.assertFalse(isinstance(node.value, str) and chr(37) in node.value)
+            for name in names_bound(tree):
+                self.assertFalse(hasattr(builtins, name), (path, name))
+            bound = [name for name in names_bound(tree) if name not in {node.name for node in tree.body if isinstance(node, ast.ClassDef)}]
+            self.assertFalse(taken & set(bound), path)
+
+    def test_module_level(self):
+        for path, tree in trees():
+            for node in tree.body:
+                if isinstance(node, ast.Expr):
+                    self.assertIsInstance(node.value, ast.Constant)
+                else:
+                    self.assertIsInstance(node, (ast.ImportFrom, ast.FunctionDef, ast.ClassDef, ast.Assign), path)
+
+    def test_methods_that_are_called(self):
+        own = {
+            each.name for _, tree in trees() for node in ast.walk(tree) if isinstance(node, ast.ClassDef)
+            for each in node.body if isinstance(each, ast.FunctionDef)
+        }
+        for path, tree in trees():
+            for node in ast.walk(tree):
+                if isinstance(node, ast.Call) and isinstance(node.func, ast.Attribute):
+                    self.assertIn(node.func.attr, METHODS | own, path)
+
+    def test_generators_are_iterated_at_once(self):
+        generators = set()
+        for _, tree in trees():
+            for node in ast.walk(tree):
+                if isinstance(node, ast.FunctionDef) and any(isinstance(one, (ast.Yield, ast.YieldFrom)) for one in ast.walk(node)):
+                    generators.add(node.name)
+        self.assertIn("sheet_faults", generators)
+        for path, tree in trees():
+            good = set()
+            for node in ast.walk(tree):
+                if isinstance(node, (ast.For, ast.comprehension)):
+                    good.add(id(node.iter))
+                elif isinstance(node, ast.YieldFrom):
+                    good.add(id(node.value))
+                elif isinstance(node, ast.Call) and isinstance(node.func, ast.Name) and node.func.id in ("list", "tuple") and node.args:
+                    good.add(id(node.args[0]))
+            for node in ast.walk(tree):
+                if isinstance(node, ast.Call) and isinstance(node.func, ast.Name) and node.func.id in generators:
+                    self.assertIn(id(node), good, (path, node.lineno))
+
+    def test_interface(self):
+        for module, listed in INTERFACE.items():
+            tree = ast.parse((PACKAGE / f"{module}.py").read_text(encoding="utf-8"))
+            defined = {node.name: node for node in tree.body if isinstance(node, (ast.FunctionDef, ast.ClassDef))}
+            for name, wanted in listed.items():
+                node = defined[name]
+                if isinstance(wanted, str):
+                    self.assertEqual(arguments_of(node), wanted, name)
+                    continue
+                methods = {each.name: each for each in node.body if isinstance(each, ast.FunctionDef)}
+                for method, arguments in wanted.items():
+                    self.assertEqual(arguments_of(methods[method]), arguments, (name, method))
+
+
+if __name__ == "__main__":
+    unittest.main()
