@@ -2,6 +2,8 @@
 
 import ast
 import builtins
+import importlib
+import inspect
 import pathlib
 import unittest
 
@@ -37,8 +39,20 @@ INTERFACE = {
     },
     "amounts": {"Amount": {"__init__": "over under=1", "compared": "other"}},
     "kinds": {name: "thing" for name in ("is_integer", "is_number", "is_name", "is_fraction", "is_state", "is_sheet")},
+    "sheetchecker": {"lets_sheet": "thing"},
+    "sheets": {"fresh": "*lines", "state_after": "sheet booking", "part": "sheet first count"},
+    "tariffs": {
+        "Tariff": {"__init__": "* price", "__call__": "quantity", "counted": "quantity"}, "Started": {}, "Free": {}, "Basic": {},
+        "FreeStarted": {}, "StartedFree": {}, "BasicFree": {}, "BasicStarted": {}, "charges_of": "tariffs *quantities",
+    },
     "sheettexts": {"sheet_text": "sheet"},
     "sheetreadings": {"sheet_read": "text", "fraction_read": "text"},
+    "sums": {
+        "sums_of": "sheet", "entries_of": "sheet which", "exact_of": "sheet which", "least_of": "sheet which",
+        "most_of": "sheet which", "fixed_of": "sheet which", "cents_of": "sheet booking which", "is_close": "sheet booking",
+    },
+    "bookingchecker": {"lets_booking": "sheet thing"},
+    "findings": {"found_booking": "sheet", "stuck_list": "sheet"},
 }
 
 
@@ -162,7 +176,7 @@ class LanguageTest(unittest.TestCase):
             for node in ast.walk(tree):
                 if isinstance(node, ast.FunctionDef) and any(isinstance(one, (ast.Yield, ast.YieldFrom)) for one in ast.walk(node)):
                     generators.add(node.name)
-        self.assertIn("sheet_faults", generators)
+        self.assertIn("sums_of", generators)
         for path, tree in trees():
             good = set()
             for node in ast.walk(tree):
@@ -188,6 +202,9 @@ class LanguageTest(unittest.TestCase):
                 methods = {each.name: each for each in node.body if isinstance(each, ast.FunctionDef)}
                 for method, arguments in wanted.items():
                     self.assertEqual(arguments_of(methods[method]), arguments, (name, method))
+
+    def test_sums_of_is_a_generator(self):
+        self.assertTrue(inspect.isgeneratorfunction(importlib.import_module("centbook.sums").sums_of))
 
 
 if __name__ == "__main__":
