@@ -51,27 +51,29 @@ class Circulation:
             front = further
         return reached
 
-    def pushed(self, arc, step):
-        """Pushes the flow of an arc, which is out of bounds, by step along a cycle.
+    def pushed(self, arc, step, most):
+        """Pushes the flow of an arc, which cannot change the other way, at most so many times by step along a cycle.
 
         No other flow leaves its bounds, or gets further out of them. Returns None, or
         if there is no such cycle the nodes that are reached instead.
         """
-        start, goal = self.ends[arc]
-        if step > 0:
-            start, goal = goal, start
+        goal, start = self.move_ends(arc, step)
         reached = self.reached_from(start)
         if goal not in reached:
             return reached
-        cycle = [(arc, step)]
-        many = -self.spare(arc, -step)
-        while goal != start:
-            goal, other, by = reached[goal]
-            cycle.append((other, by))
-            many = min(many, self.spare(other, by))
-        for other, by in cycle:
-            self.flows[other] += by * many
+        way = way_to(reached, goal)
+        self.push([(arc, step)] + way, min([most] + [self.spare(other, by) for other, by in way]))
         return None
+
+    def push(self, cycle, many):
+        """Changes the flow of each arc of a cycle of (arc, step) many times by its step."""
+        for arc, step in cycle:
+            self.flows[arc] += step * many
+
+    def move_ends(self, arc, step):
+        """The nodes (from, to) between which more flows if the flow of an arc changes by step."""
+        tail, head = self.ends[arc]
+        return (tail, head) if step > 0 else (head, tail)
 
     def settled(self):
         """Pushes all flows into their bounds, and returns None.
@@ -81,8 +83,18 @@ class Circulation:
         flow or more, and at least one of these flows is out of bounds.
         """
         for arc in self.ends:
-            while self.spare(arc, -1) < 0 or self.spare(arc, 1) < 0:
-                nodes = self.pushed(arc, 1 if self.spare(arc, -1) < 0 else -1)
-                if nodes is not None:
-                    return nodes
+            for step in (1, -1):
+                while self.spare(arc, -step) < 0:
+                    nodes = self.pushed(arc, step, -self.spare(arc, -step))
+                    if nodes is not None:
+                        return nodes
         return None
+
+
+def way_to(reached, node):
+    """The (arc, step) that lead to a node from where reached begins, the last one first."""
+    way = []
+    while reached[node] is not None:
+        node, arc, step = reached[node]
+        way.append((arc, step))
+    return way

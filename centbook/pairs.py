@@ -32,3 +32,23 @@ def rounded_down(pair):
 def rounded_up(pair):
     """The least integer that is at least the fraction."""
     return -(-pair[0] // pair[1])
+
+
+def pair_turned(pair):
+    """The fraction with the other sign."""
+    return -pair[0], pair[1]
+
+
+def pair_less(one, other):
+    """What remains of a fraction if another one is taken from it."""
+    return pair_sum(one, pair_turned(other))
+
+
+def pair_times(pair, number):
+    """A fraction times an integer."""
+    return lowest(pair[0] * number, pair[1])
+
+
+def is_below(one, other):
+    """Whether a fraction is less than another one."""
+    return one[0] * other[1] < other[0] * one[1]

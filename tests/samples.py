@@ -5,6 +5,8 @@ import math
 import random
 from fractions import Fraction
 
+from centbook.errors import InvalidPaper
+
 # Values of all kinds: none of them is a name, a fraction, a state, a sheet or a booking.
 ODD_VALUES = (
     True, False, None, -1, 0, 1, 10 ** 60 - 1, "", " ", "-", "A", "a b", "\n", "1/2",
@@ -150,3 +152,139 @@ def stuck_fault(sheet, thing):
     if any(balance.values()):
         return "entry"
     return None if gain >= 1 else "gain"
+
+
+def caught_error(function, *values):
+    """What a call returns, or (word, at) of the InvalidPaper that it raises."""
+    try:
+        return function(*values)
+    except InvalidPaper as error:
+        return error.word, error.at
+
+
+def looks_like(thing, like):
+    """Whether a value equals another one and has the same kinds in it, so that True is not 1."""
+    if type(thing) is not type(like):
+        return False
+    if isinstance(thing, (tuple, list)):
+        return len(thing) == len(like) and all(looks_like(one, other) for one, other in zip(thing, like))
+    return thing == like
+
+
+def places_in(thing, path=()):
+    """The paths of indexes to all parts of nested tuples, the whole included."""
+    yield path
+    if isinstance(thing, tuple):
+        for k, part in enumerate(thing):
+            yield from places_in(part, path + (k,))
+
+
+def part_at(thing, path):
+    """The part of nested tuples at a path."""
+    for k in path:
+        thing = thing[k]
+    return thing
+
+
+def put_at(thing, path, part):
+    """Nested tuples with another part at a path."""
+    if not path:
+        return part
+    return changed(thing, path[0], put_at(thing[path[0]], path[1:], part))
+
+
+def spoiled(thing, rng):
+    """Nested tuples with one of their parts removed, repeated, turned over or replaced."""
+    path = rng.choice(list(places_in(thing)))
+    part = part_at(thing, path)
+    others = [part_at(thing, rng.choice(list(places_in(thing)))), rng.choice(ODD_VALUES)]
+    if isinstance(part, bool):
+        others.append(not part)
+    elif isinstance(part, int):
+        others.extend([part + 1, part - 1, -part, part == 1, str(part), part + 7, 0, 1, 2] * 2)
+    elif isinstance(part, str):
+        others.extend(["least", "most", "more", "less", "free", "forced", "account", "day", "entry", "line", "section"])
+    elif isinstance(part, tuple):
+        k = rng.randint(0, len(part))
+        others.extend([list(part), part[::-1], part[:k] + part[k + 1:], part[:k] + part[k:k + 1] + part[k:], part[:k], part + part])
+        others.extend([tuple(rng.sample(part, len(part))), tuple(sorted(part, key=repr))])
+    return put_at(thing, path, rng.choice(others))
+
+
+def is_plain_number(thing):
+    return type(thing) is int and thing >= 0
+
+
+def is_plain_rows(thing):
+    """Whether a value is a tuple of tuples of numbers."""
+    return type(thing) is tuple and all(type(row) is tuple and all(map(is_plain_number, row)) for row in thing)
+
+
+def is_plain_sum(thing):
+    """Whether a value is a sum by shape."""
+    if type(thing) is not tuple or not thing or type(thing[0]) is not str:
+        return False
+    many = {"account": 1, "day": 1, "entry": 2, "line": 2, "section": 2}.get(thing[0])
+    return many == len(thing) - 1 and all(map(is_plain_number, thing[1:]))
+
+
+def is_plain_list(thing, sides):
+    """Whether a value is a list of sums with sides by shape."""
+    return type(thing) is tuple and all(
+        type(pair) is tuple and len(pair) == 2 and type(pair[0]) is str and pair[0] in sides and is_plain_sum(pair[1])
+        for pair in thing
+    )
+
+
+def list_error(sheet, pairs, extra=None):
+    """The first error (word, place) of a list by shape, or the gain of a list without one.
+
+    extra has the sums and bounds of more sides: {"more": (1, sum, bound)}, with -1 in place of 1 for one like "most".
+    """
+    extra = extra or {}
+    if list(pairs) != sorted(set(pairs)):
+        return "order", -1
+    rows = {which: (entries, exact, fixed) for which, entries, exact, fixed in plain_sums(sheet)}
+    balance = {(d, i): 0 for d in range(len(sheet[2])) for i in range(len(sheet[0]))}
+    gain = 0
+    for k, (side, which) in enumerate(pairs):
+        if which not in rows or (side in extra and extra[side][1] != which):
+            return "sum", k
+    for side, which in pairs:
+        entries, exact, fixed = rows[which]
+        if side in extra:
+            step, _, bound = extra[side]
+        else:
+            step, bound = (1, math.floor(exact)) if side == "least" else (-1, math.ceil(exact))
+        gain += step * (bound - fixed)
+        for entry in entries:
+            balance[entry] += step
+    for entry in sorted(balance):
+        if balance[entry] != 0:
+            return "entry", entry
+    return gain if gain >= 1 else ("gain", -1)
+
+
+def stuck_error(sheet, thing):
+    """The first error (word, at) of any value that is to be a stuck list, or its gain."""
+    return list_error(sheet, thing) if is_plain_list(thing, ("least", "most")) else ("shape", -1)
+
+
+def steps_between(one, other):
+    """The (d, i, step) by which a booking differs from another one."""
+    return tuple(
+        (d, i, more - less) for d, (row, further) in enumerate(zip(one, other))
+        for i, (less, more) in enumerate(zip(row, further)) if more != less
+    )
+
+
+def plain_exchanges(close, booking):
+    """All exchanges of a close booking, ascending, as the definition says; close has all close bookings."""
+    changes = [steps_between(booking, other) for other in close if other != booking]
+    known = set(changes)
+    found = []
+    for change in changes:
+        parts = [part for part in changes if len(part) < len(change) and set(part) < set(change)]
+        if not any(tuple(row for row in change if row not in part) in known for part in parts):
+            found.append(change)
+    return sorted(found)

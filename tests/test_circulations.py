@@ -4,9 +4,10 @@ import random
 import unittest
 
 from centbook.circulations import Circulation
-from centbook.findings import circulation_of, found_booking
+from centbook.findings import found_booking
+from centbook.sheetflows import booking_in, circulation_of, least_circulation, pairs_around
 from centbook.sums import entries_of, sums_of
-from tests.samples import random_sheet
+from tests.samples import all_close, random_sheet
 
 
 def ring(bounds, flow):
@@ -54,7 +55,7 @@ class CirculationsTest(unittest.TestCase):
         for seed in range(200):
             rng = random.Random(seed)
             sheet = random_sheet(seed, most_lines=4, most_days=4)
-            circulation = circulation_of(sheet)
+            circulation = least_circulation(sheet)
             booking = [[rng.randint(0, 4) for _ in sheet[0]] for _ in sheet[2]]
             for which in sums_of(sheet):
                 circulation.flows[which] = sum(booking[d][i] for d, i in entries_of(sheet, which))
@@ -63,6 +64,30 @@ class CirculationsTest(unittest.TestCase):
                 self.check_stuck(circulation)
             else:
                 self.check_settled(circulation)
+
+    def test_the_flows_of_a_booking(self):
+        for seed in range(60):
+            sheet = random_sheet(seed, most_lines=4, most_days=4)
+            for booking in all_close(sheet)[:5]:
+                circulation = circulation_of(sheet, booking)
+                self.check_balanced(circulation)
+                self.check_settled(circulation)
+                self.assertEqual(booking_in(sheet, circulation), booking)
+
+    def test_pairs_around(self):
+        circulation = ring(((0, 5), (6, 9), (0, 9)), 3)
+        self.assertEqual(pairs_around(circulation, {0: True}), (("least", 2), ("most", 0)))
+        self.assertEqual(pairs_around(circulation, {0: True, 1: True, 2: True}), ())
+
+    def test_pushed_at_most_so_many_times(self):
+        circulation = ring(((0, 5), (0, 9), (0, 4)), 0)
+        self.assertIsNone(circulation.pushed(1, 1, 3))
+        self.assertEqual(circulation.flows, {0: 3, 1: 3, 2: 3})
+        circulation.lows[1] = 3
+        self.assertIsNone(circulation.pushed(1, 1, 3))
+        self.assertEqual(circulation.flows, {0: 4, 1: 4, 2: 4})
+        circulation.lows[1] = 4
+        self.assertEqual(sorted(circulation.pushed(1, 1, 1)), [2])
 
 
 if __name__ == "__main__":

@@ -53,6 +53,12 @@ INTERFACE = {
     },
     "bookingchecker": {"lets_booking": "sheet thing"},
     "findings": {"found_booking": "sheet", "stuck_list": "sheet"},
+    "stuckchecker": {"lets_stuck": "sheet thing"},
+    "exchanges": {"exchanges": "sheet booking", "exchanged": "sheet booking *some", "way_between": "sheet one other"},
+    "bookings": {"bookings_of": "sheet", "all_ends": "sheet", "booking_to": "sheet cents"},
+    "forced": {"forced_entries": "sheet", "is_free": "sheet d i"},
+    "entrypapers": {"entry_paper": "sheet d i"},
+    "entrychecker": {"lets_entry": "sheet d i thing"},
 }
 
 
@@ -129,6 +135,7 @@ class LanguageTest(unittest.TestCase):
                 needs[path.stem].append(module)
                 there = ast.parse((PACKAGE / f"{module}.py").read_text(encoding="utf-8"))
                 defined = {each.name for each in there.body if isinstance(each, (ast.FunctionDef, ast.ClassDef))}
+                defined |= {each.targets[0].id for each in there.body if isinstance(each, ast.Assign)}
                 self.assertLessEqual(names, defined)
         done = set()
         while len(done) < len(needs):
@@ -203,8 +210,10 @@ class LanguageTest(unittest.TestCase):
                 for method, arguments in wanted.items():
                     self.assertEqual(arguments_of(methods[method]), arguments, (name, method))
 
-    def test_sums_of_is_a_generator(self):
-        self.assertTrue(inspect.isgeneratorfunction(importlib.import_module("centbook.sums").sums_of))
+    def test_generators_of_the_interface(self):
+        for module, names in {"sums": ["sums_of"], "exchanges": ["exchanges"], "bookings": ["bookings_of", "all_ends"]}.items():
+            for name in names:
+                self.assertTrue(inspect.isgeneratorfunction(getattr(importlib.import_module(f"centbook.{module}"), name)))
 
 
 if __name__ == "__main__":
