@@ -8,9 +8,8 @@ def bookings_of(sheet):
     walks = Walks(sheet)
     first = walks.first
     layers = walks.leading_to(walks.reached()[walks.many])
-    if first in layers[0]:
-        for booking in walked(walks, layers, 0, first):
-            yield booking
+    for booking in walked(walks, layers, 0, first):
+        yield booking
 
 
 def all_ends(sheet):

@@ -12,14 +12,14 @@ OWN_SIDES = (("more", "least"), ("less", "most"))
 
 def is_free_by_shape(thing):
     """Whether a value is built like a paper of a free entry."""
-    if not isinstance(thing, tuple) or len(thing) != 3 or not isinstance(thing[0], str) or thing[0] != "free":
+    if not isinstance(thing, tuple) or len(thing) != 3 or thing[0] != "free":
         return False
     return is_rows_of_numbers(thing[1]) and is_rows_of_numbers(thing[2])
 
 
 def is_forced_by_shape(thing):
     """Whether a value is built like a paper of a forced entry."""
-    if not isinstance(thing, tuple) or len(thing) != 4 or not isinstance(thing[0], str) or thing[0] != "forced":
+    if not isinstance(thing, tuple) or len(thing) != 4 or thing[0] != "forced":
         return False
     lists = [is_list_by_shape(pairs, SIDES + (own,)) for pairs, (own, _) in zip(thing[2:], OWN_SIDES)]
     return is_rows_of_numbers(thing[1]) and all(lists)

@@ -3,17 +3,16 @@
 from centbook.sheetflows import least_circulation
 
 
-def turning_step(circulation, arc):
-    """The step, 1 or -1, by which the flow of an arc can change in a settled circulation, or 0.
+def can_turn(circulation, arc):
+    """Whether the flow of an arc can change in a settled circulation of a sheet.
 
-    The flow of an arc changes if a cycle goes through it, so if its beginning is reached
-    from its end.
+    It can if a cycle goes through the arc, so if its beginning is reached from its end.
     """
     for step in (1, -1):
         if circulation.spare(arc, step) > 0:
             goal, start = circulation.move_ends(arc, step)
-            return step if goal in circulation.reached_from(start) else 0
-    return 0
+            return goal in circulation.reached_from(start)
+    return False
 
 
 def forced_entries(sheet):
@@ -21,11 +20,11 @@ def forced_entries(sheet):
     circulation = least_circulation(sheet)
     if circulation.settled() is not None:
         return None
-    entries = [arc for arc in circulation.ends if arc[0] == "entry" and turning_step(circulation, arc) == 0]
+    entries = [arc for arc in circulation.ends if arc[0] == "entry" and not can_turn(circulation, arc)]
     return tuple([(d, i, circulation.flows["entry", d, i]) for _, d, i in entries])
 
 
 def is_free(sheet, d, i):
     """Whether two close bookings have different cents at an entry."""
     circulation = least_circulation(sheet)
-    return circulation.settled() is None and turning_step(circulation, ("entry", d, i)) != 0
+    return circulation.settled() is None and can_turn(circulation, ("entry", d, i))

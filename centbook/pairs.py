@@ -2,6 +2,9 @@
 
 from math import gcd
 
+NO_CENTS = (0, 1)
+ONE_CENT = (1, 1)
+
 
 def lowest(over, under):
     """The fraction over / under in lowest terms; under is not 0."""

@@ -7,9 +7,19 @@ NUMBERS = {"account": 1, "day": 1, "entry": 2, "line": 2, "section": 2}
 SIDES = ("least", "most")
 
 
+def is_rows_of(thing, many):
+    """Whether a value is a tuple of tuples of so many parts."""
+    return isinstance(thing, tuple) and all([isinstance(row, tuple) and len(row) == many for row in thing])
+
+
+def begins_with_word(thing):
+    """Whether a value is a tuple that begins with a string."""
+    return isinstance(thing, tuple) and thing != () and isinstance(thing[0], str)
+
+
 def is_sum_by_shape(thing):
     """Whether a value is the word of a sum with as many numbers as belong to it, however great."""
-    if not isinstance(thing, tuple) or thing == () or not isinstance(thing[0], str):
+    if not begins_with_word(thing):
         return False
     if NUMBERS.get(thing[0], -1) != len(thing) - 1:
         return False
@@ -27,13 +37,15 @@ def is_sum_of(sheet, which):
     return all([number < limit for number, limit in zip(which[1:], limits[which[0]])])
 
 
-def is_side(thing, sides):
-    """Whether a value is one of some sides."""
-    return isinstance(thing, str) and thing in sides
-
-
 def is_list_by_shape(thing, sides):
     """Whether a value is a tuple of pairs of one of some sides and a sum by shape."""
-    if not isinstance(thing, tuple) or not all([isinstance(pair, tuple) and len(pair) == 2 for pair in thing]):
+    if not is_rows_of(thing, 2):
         return False
-    return all([is_side(side, sides) and is_sum_by_shape(which) for side, which in thing])
+    return all([side in sides and is_sum_by_shape(which) for side, which in thing])
+
+
+def is_loose_list(thing):
+    """Whether a value is a tuple of pairs of a string and a tuple that begins with a string."""
+    if not is_rows_of(thing, 2):
+        return False
+    return all([isinstance(side, str) and begins_with_word(which) for side, which in thing])

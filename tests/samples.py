@@ -288,3 +288,37 @@ def plain_exchanges(close, booking):
         if not any(tuple(row for row in change if row not in part) in known for part in parts):
             found.append(change)
     return sorted(found)
+
+
+def plain_balances(state):
+    """(ahead, behind, ended) of a state as Fractions."""
+    rows = [(cents - value_of(exact), goes_on) for _, exact, cents, goes_on in state]
+    return (
+        sum((off for off, goes_on in rows if goes_on and off > 0), Fraction(0)),
+        sum((-off for off, goes_on in rows if goes_on and off < 0), Fraction(0)),
+        sum((off for off, goes_on in rows if not goes_on), Fraction(0)),
+    )
+
+
+def is_plain_close(state):
+    """Whether a state is close."""
+    rows = [(value_of(exact), cents) for _, exact, cents, _ in state]
+    rows.append((sum(exact for exact, _ in rows), sum(cents for _, cents in rows)))
+    return all(math.floor(exact) <= cents <= math.ceil(exact) for exact, cents in rows)
+
+
+def is_plain_open(state):
+    """Whether a state is close and open."""
+    ahead, behind, ended = plain_balances(state)
+    return is_plain_close(state) and max(ahead, behind, ahead + ended, behind - ended) < 1
+
+
+def close_state(rng, names, unders=(2, 3, 4), ends=0.0):
+    """Any close state with these names."""
+    while True:
+        state = []
+        for name in names:
+            exact = Fraction(rng.randint(0, 12), rng.choice(unders))
+            state.append(line(name, exact, rng.choice((math.floor(exact), math.ceil(exact))), rng.random() >= ends))
+        if is_plain_close(state):
+            return tuple(state)

@@ -148,10 +148,20 @@ class ExchangesTest(unittest.TestCase):
         self.check_refused(SHEET, ONE, [SWAP, SWAP], SWAP)
 
     def test_an_entry_comes_once(self):
-        self.check_refused(MIXED, ((1, 0),), [((0, 1, 1), (0, 1, 1))], ((0, 1, 1), (0, 1, 1)))
-        self.check_refused(MIXED, ((1, 0),), [((0, 1, -1), (0, 1, 1))], ((0, 1, -1), (0, 1, 1)))
+        """Also where the steps at an entry add up to none, and the others are an exchange."""
+        for step in (
+            ((0, 1, 1), (0, 1, 1)), ((0, 1, -1), (0, 1, 1)), ((0, 0, -1), (0, 0, 1), (0, 1, 1)), ((0, 0, 1), (0, 0, -1), (0, 1, 1)),
+            ((0, 1, -1), (0, 1, 1), (0, 1, 1)),
+        ):
+            self.check_refused(MIXED, ((1, 0),), [step], step)
         wider = ((line("a"), line("b"), line("c")), (), (day(1, HALF, 1),))
-        self.check_refused(wider, ((1, 0, 1),), [((0, 0, 1), (0, 1, 1), (0, 2, -1))], ((0, 0, 1), (0, 1, 1), (0, 2, -1)))
+        self.assertEqual(exchanged(wider, ((1, 0, 1),), ((0, 1, 1),)), ((1, 1, 1),))
+        for step in (((0, 0, 1), (0, 1, 1), (0, 2, -1)), ((0, 1, 1), (0, 2, -1), (0, 2, 1))):
+            self.check_refused(wider, ((1, 0, 1),), [step], step)
+
+    def test_a_step_is_never_zero(self):
+        for step in (((0, 0, 0), (0, 1, 1)), ((0, 0, 0),), ((0, 0, 0), (0, 1, 0)), ((0, 1, 2),), ((0, 1, -2),)):
+            self.check_refused(MIXED, ((1, 0),), [step], step)
 
     def test_two_exchanges_at_once_are_none(self):
         """Two steps that are both exchanges alone: together they lead to a close booking, too."""

@@ -59,6 +59,14 @@ INTERFACE = {
     "forced": {"forced_entries": "sheet", "is_free": "sheet d i"},
     "entrypapers": {"entry_paper": "sheet d i"},
     "entrychecker": {"lets_entry": "sheet d i thing"},
+    "pricing": {"price_of": "prices booking", "cheapest": "sheet prices"},
+    "cheapestpapers": {"cheapest_paper": "sheet prices"},
+    "cheapestchecker": {"lets_cheapest": "sheet prices thing"},
+    "states": {
+        "offs": "state", "balances": "state", "is_close_state": "state", "is_open": "state", "open_states": "state",
+    },
+    "breaking": {"breaking_day": "state", "room": "state"},
+    "breakchecker": {"lets_broken": "state thing", "lets_room": "state thing"},
 }
 
 
@@ -211,7 +219,9 @@ class LanguageTest(unittest.TestCase):
                     self.assertEqual(arguments_of(methods[method]), arguments, (name, method))
 
     def test_generators_of_the_interface(self):
-        for module, names in {"sums": ["sums_of"], "exchanges": ["exchanges"], "bookings": ["bookings_of", "all_ends"]}.items():
+        for module, names in {
+            "sums": ["sums_of"], "exchanges": ["exchanges"], "bookings": ["bookings_of", "all_ends"], "states": ["open_states"],
+        }.items():
             for name in names:
                 self.assertTrue(inspect.isgeneratorfunction(getattr(importlib.import_module(f"centbook.{module}"), name)))
 

@@ -5,6 +5,7 @@ import random
 import unittest
 from fractions import Fraction
 
+from centbook.bookingchecker import lets_booking
 from centbook.errors import InvalidPaper, PaperError
 from centbook.findings import found_booking, stuck_list
 from centbook.sheets import fresh, part
@@ -96,7 +97,7 @@ class StuckCheckerTest(unittest.TestCase):
                 self.check(THREE, (("least", ("line", 0, odd)),), "shape", -1)
         for which in (
             (), ("day",), ("day", 0, 0), ("account", 0, 0), ("entry", 0), ("line", 0), ("section", 0), ("entry", 0, 0, 0), ["day", 0],
-            ("days", 0), ("Day", 0), ("day", True), ("day", -1), ("entry", False, 0), ("entry", 0, "0"), ("least", 0), ("root",),
+            ("days", 0), ("days", 0, 0), ("Day", 0), ("Entry", 0, 0), ("day", True), ("day", -1), ("entry", False, 0), ("entry", 0, "0"), ("least", 0), ("root",),
             ("day", (0,)), ("day", None), "day", 0,
         ):
             self.check(THREE, (("least", which),), "shape", -1)
@@ -217,6 +218,20 @@ class StuckCheckerTest(unittest.TestCase):
     def test_stuck_lists_are_accepted(self):
         for sheet, stuck in stuck_sheets(80, most_lines=6, most_days=6, astray=2):
             self.assertEqual(lets_stuck(sheet, stuck), stuck_error(sheet, stuck))
+
+    def test_exactly_one_of_both(self):
+        """Each sheet has a close booking or a stuck list, never both, and its own checker accepts it."""
+        seen = {True: 0, False: 0}
+        for seed in range(300):
+            sheet = random_sheet(seed, most_lines=6, most_days=5, astray=1 + seed % 3)
+            booking, stuck = found_booking(sheet), stuck_list(sheet)
+            self.assertEqual((booking is None) + (stuck is None), 1)
+            seen[stuck is None] += 1
+            if stuck is None:
+                self.assertEqual(lets_booking(sheet, booking), sum(map(sum, booking)))
+            else:
+                self.assertGreaterEqual(lets_stuck(sheet, stuck), 1)
+        self.assertGreater(min(seen.values()), 60)
 
     def test_six_lines_ten_days_three_sections(self):
         found = 0
