@@ -5,6 +5,7 @@ price zero. The bounds of an arc are at most one apart.
 """
 
 from centbook.circulations import way_to
+from centbook.pairs import lowest
 
 
 def cheapest_ways(circulation, prices, lengths):
@@ -63,3 +64,12 @@ def slopes_of(circulation, prices):
         arc: prices.get(arc, 0) + lengths[tail] - lengths[head]
         for arc, (tail, head) in circulation.ends.items()
     }
+
+
+def weights_by(slopes, scale):
+    """The ascending (side, sum, weight) of all arcs, which are sums, whose slope, a part of a scale, is not zero."""
+    weights = []
+    for which, slope in slopes.items():
+        if slope != 0:
+            weights.append(("least" if slope > 0 else "most", which, lowest(abs(slope), scale)))
+    return tuple(sorted(weights))

@@ -53,6 +53,11 @@ def is_row_of_numbers(thing):
     return isinstance(thing, tuple) and all([is_number(part) for part in thing])
 
 
+def is_row_of_integers(thing):
+    """Whether a value is a tuple of integers."""
+    return isinstance(thing, tuple) and all([is_integer(part) for part in thing])
+
+
 def is_row_of_names(thing):
     """Whether a value is a tuple of names."""
     return isinstance(thing, tuple) and all([is_name(part) for part in thing])

@@ -1,4 +1,4 @@
-"""Fresh states, states after a booking, and parts of sheets."""
+"""Fresh states, states after a booking or with other cents, and parts of sheets."""
 
 from centbook.pairs import pair_sum, pair_total
 
@@ -17,6 +17,13 @@ def state_after(sheet, booking):
         booked = sum([row[i] for row in booking])
         after.append((name, pair_sum(exact, charged), cents + booked, goes_on))
     return tuple(after)
+
+
+def changed_state(state, changes):
+    """The state with one integer for each line added to its cents."""
+    return tuple([
+        (name, exact, cents + change, goes_on) for (name, exact, cents, goes_on), change in zip(state, changes)
+    ])
 
 
 def part(sheet, first, count):

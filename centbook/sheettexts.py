@@ -12,7 +12,7 @@ def integer_text(number):
         rest, piece = divmod(rest, PIECE)
         pieces.append(f"{piece:060d}")
     sign = "-" if number < 0 else ""
-    tail = "".join(reversed(pieces))
+    tail = "".join(pieces[::-1])
     return f"{sign}{rest}{tail}"
 
 

@@ -44,6 +44,15 @@ def loaded_entry(sheet, rows):
     return None
 
 
+def state_loads_of(sheet, rows):
+    """For each line what the weights of all sums with its state, of the account and of the line, add up to."""
+    loads = []
+    for i in range(len(sheet[0])):
+        with_state = [row for row in rows if row[1][0] == "account" or row[1][:2] == ("line", i)]
+        loads.append(pair_total([signed_weight(side, weight) for side, _, weight in with_state]))
+    return loads
+
+
 def worth_of(sheet, rows):
     """What the bounds of all sums add up to, each multiplied by its weight."""
     parts = []

@@ -322,3 +322,54 @@ def close_state(rng, names, unders=(2, 3, 4), ends=0.0):
             state.append(line(name, exact, rng.choice((math.floor(exact), math.ceil(exact))), rng.random() >= ends))
         if is_plain_close(state):
             return tuple(state)
+
+
+def shifted(state, changes):
+    """The state with integers added to the cents of its lines."""
+    return tuple((name, exact, cents + change, goes_on) for (name, exact, cents, goes_on), change in zip(state, changes))
+
+
+def changes_of_size(many, size):
+    """All tuples of so many integers whose sizes add up to this one."""
+    if many == 0:
+        if size == 0:
+            yield ()
+        return
+    for change in range(-size, size + 1):
+        for rest in changes_of_size(many - 1, size - abs(change)):
+            yield (change,) + rest
+
+
+def plain_states_behind(sheet, booking):
+    """The state behind each day of a booking."""
+    state, _, days = sheet
+    exacts, cents, found = [value_of(one[1]) for one in state], [one[2] for one in state], []
+    for charges, row in zip(days, booking):
+        exacts = [exact + value_of(charge) for exact, charge in zip(exacts, charges)]
+        cents = [one + more for one, more in zip(cents, row)]
+        found.append(tuple((one[0], fraction_pair(exact), many, one[3]) for one, exact, many in zip(state, exacts, cents)))
+    return found
+
+
+def is_plain_steady(sheet, booking):
+    """Whether a close booking is steady."""
+    return all(map(is_plain_open, plain_states_behind(sheet, booking)))
+
+
+def booking_error(sheet, thing):
+    """The first error (word, at) of any value that is to be a close booking, or the number of its cents."""
+    if not is_plain_rows(thing):
+        return "shape", -1
+    state, _, days = sheet
+    if len(thing) != len(days):
+        return "days", -1
+    for d, row in enumerate(thing):
+        if len(row) != len(state):
+            return "lines", d
+    for which, entries, exact, fixed in plain_sums(sheet):
+        cents = fixed + sum(thing[d][i] for d, i in entries)
+        if cents < math.floor(exact):
+            return "least", which
+        if cents > math.ceil(exact):
+            return "most", which
+    return sum(map(sum, thing))

@@ -6,6 +6,7 @@ from fractions import Fraction
 
 from centbook.breakchecker import lets_broken, lets_room
 from centbook.breaking import breaking_day, room
+from centbook.breakpapers import broken_paper, room_paper
 from centbook.errors import InvalidPaper
 from centbook.findings import stuck_list
 from centbook.kinds import is_fraction
@@ -31,16 +32,6 @@ HIGH_STUCK = (
     ("least", ("entry", 0, 0)), ("least", ("entry", 0, 1)), ("least", ("line", 2, 0)), ("most", ("account", 0)),
 )
 ROOM = (HALF, HIGH, HIGH_STUCK)
-
-
-def broken_paper(state):
-    charges = breaking_day(state)
-    return charges, stuck_list((state, (), (charges,)))
-
-
-def room_paper(state):
-    total, charges = room(state)
-    return total, charges, stuck_list((state, (), (charges,)))
 
 
 def is_loose(thing):

@@ -67,6 +67,12 @@ INTERFACE = {
     },
     "breaking": {"breaking_day": "state", "room": "state"},
     "breakchecker": {"lets_broken": "state thing", "lets_room": "state thing"},
+    "breakpapers": {"broken_paper": "state", "room_paper": "state"},
+    "correcting": {"corrected": "state", "corrections": "sheet"},
+    "correctionpapers": {"correction_paper": "sheet"},
+    "correctionchecker": {"lets_corrections": "sheet thing"},
+    "steadiness": {"steady": "sheet"},
+    "steadychecker": {"lets_steady": "sheet thing"},
 }
 
 
