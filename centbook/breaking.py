@@ -37,7 +37,8 @@ def lines_behind(state):
     for _, under in going:
         scale = lcm(scale, under)
     whole = [over * (scale // under) for over, under in going]
-    return sorted([i for i, off in enumerate(whole) if off < 0], key=lambda k: whole[k])
+    distant = sorted([(off, i) for i, off in enumerate(whole) if off < 0])
+    return [i for _, i in distant]
 
 
 def pushing_day(state, distance):

@@ -4,17 +4,17 @@
 class WaySearch:
     """Collects ways in a circulation along arcs whose flows can change."""
 
-    def __init__(self, circulation, barred):
-        """The ways use none of the barred arcs, which are the keys of a dict."""
+    def __init__(self, circulation, closed):
+        """The ways use none of the closed arcs, which are the keys of a dict."""
         self.circulation = circulation
-        self.barred = barred
+        self.closed = closed
         self.met = {}
         self.found = []
 
     def moves_on(self, node):
         """The (arc, step, next node) that a way can take from a node."""
         moves = self.circulation.moves_from(node)
-        return [move for move in moves if move[0] not in self.barred and move[2] not in self.met]
+        return [move for move in moves if move[0] not in self.closed and move[2] not in self.met]
 
     def leads(self, node, goal):
         """Whether a way can go on from a node to the goal."""

@@ -85,3 +85,10 @@ def walked(walks, layers, d, cents):
         if after in layers[behind]:
             for rest in walked(walks, layers, behind, after):
                 yield (row,) + rest
+
+
+def can_be_walked(sheet):
+    """Whether a sheet has a close booking; it is found out without changing anything, so that a property may ask."""
+    walks = Walks(sheet)
+    layers = walks.reached()
+    return len(layers[walks.many]) > 0

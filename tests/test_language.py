@@ -27,8 +27,12 @@ METHODS = set(
     " setdefault split splitlines startswith strip update upper values zfill bit_length removeprefix removesuffix".split()
 )
 NOT_USED = (
-    ast.Global, ast.AsyncFunctionDef, ast.Await, ast.AsyncFor, ast.AsyncWith, ast.GeneratorExp, ast.Div, ast.MatMult, ast.Try,
+    ast.Global, ast.AsyncFunctionDef, ast.Await, ast.AsyncFor, ast.AsyncWith, ast.GeneratorExp, ast.Div, ast.MatMult, ast.Lambda,
 )
+# Methods that change what they are called on.
+CHANGING = set("append clear extend insert pop remove reverse setdefault update sort add discard".split())
+# Besides operators, these are to change nothing.
+LOOKING = {"__eq__", "__str__", "__repr__", "__len__"}
 
 # For each module its functions with their arguments, and its classes with the arguments of their methods.
 INTERFACE = {
@@ -73,12 +77,26 @@ INTERFACE = {
     "correctionchecker": {"lets_corrections": "sheet thing"},
     "steadiness": {"steady": "sheet"},
     "steadychecker": {"lets_steady": "sheet thing"},
+    "steadypapers": {"steady_paper": "sheet"},
+    "books": {"Book": {
+        "__init__": "*lines sections=()", "empty": "cls", "read": "cls text", "rounded": "fraction", "state": "", "announced": "",
+        "sections": "value", "owed": "", "offs": "", "is_open": "", "room": "", "can_go_on": "", "__getitem__": "at", "__contains__": "x",
+        "__len__": "", "__eq__": "other", "__ne__": "other", "__str__": "", "add_line": "name", "set_sections": "value", "withdraw": "",
+        "end": "line", "go": "step", "barred": "step", "announce": "**charges", "correct": "**changes", "send": "cents=None", "choices": "",
+        "days": "", "invoice": "day", "do_all": "*steps keep=False", "tried": "*steps", "log": "", "undo": "", "counts": "",
+    }},
+    "replaying": {"is_log": "thing", "replayed": "log"},
+    "steprows": {"step_row": "step", "log_rows": "log"},
+    "rowreadings": {"read_step": "text", "read_log": "rows"},
+    "desk": {"Desk": {"say": "text", "counts": ""}},
 }
 
 
+TREES = [(path, ast.parse(path.read_text(encoding="utf-8"))) for path in FILES]
+
+
 def trees():
-    for path in FILES:
-        yield path, ast.parse(path.read_text(encoding="utf-8"))
+    return TREES
 
 
 def names_bound(tree):
@@ -103,9 +121,73 @@ def arguments_of(node):
             found.append(one.arg if default is None else f"{one.arg}={ast.unparse(default)}")
     if node.args.vararg:
         found.append("*" + node.args.vararg.arg)
-    if node.args.kwonlyargs:
-        found.extend(["*", *[one.arg for one in node.args.kwonlyargs]])
+    elif node.args.kwonlyargs:
+        found.append("*")
+    for one, default in zip(node.args.kwonlyargs, node.args.kw_defaults):
+        found.append(one.arg if default is None else f"{one.arg}={ast.unparse(default)}")
+    if node.args.kwarg:
+        found.append("**" + node.args.kwarg.arg)
     return " ".join(found)
+
+
+def classes():
+    for _, tree in trees():
+        for node in tree.body:
+            if isinstance(node, ast.ClassDef):
+                yield node
+
+
+def functions_of(name):
+    """All functions, methods and constructors of the package that a call of this name may run."""
+    found = []
+    for _, tree in trees():
+        found.extend(node for node in ast.walk(tree) if isinstance(node, ast.FunctionDef) and node.name == name)
+        found.extend(
+            each for node in tree.body if isinstance(node, ast.ClassDef) and node.name == name
+            for each in node.body if isinstance(each, ast.FunctionDef) and each.name == "__init__"
+        )
+    return found
+
+
+def is_made_here(value):
+    """Whether an expression makes a new list or dict."""
+    if isinstance(value, ast.Call):
+        return isinstance(value.func, ast.Name) and value.func.id in ("list", "dict", "sorted")
+    return isinstance(value, (ast.List, ast.Dict, ast.ListComp, ast.DictComp))
+
+
+def made_here(function):
+    """The local variables of a function that are assigned new lists or dicts only."""
+    made, other = set(), {one.arg for one in function.args.args}
+    for node in ast.walk(function):
+        if isinstance(node, ast.Assign):
+            for target in node.targets:
+                names = {one.id for one in ast.walk(target) if isinstance(one, ast.Name) and isinstance(one.ctx, ast.Store)}
+                if isinstance(target, ast.Name) and is_made_here(node.value):
+                    made |= names
+                else:
+                    other |= names
+    return made - other
+
+
+def changes_in(function):
+    """What a function changes that it did not make itself, as rows of code."""
+    made = made_here(function)
+    for node in ast.walk(function):
+        targets = []
+        if isinstance(node, (ast.Assign, ast.Delete)):
+            targets = node.targets
+        elif isinstance(node, (ast.AugAssign, ast.AnnAssign)):
+            targets = [node.target]
+        for target in targets:
+            for one in ast.walk(target):
+                own = isinstance(one, ast.Attribute) and function.name == "__init__" and ast.unparse(one.value) == "self"
+                fresh = isinstance(one, ast.Subscript) and isinstance(one.value, ast.Name) and one.value.id in made
+                if isinstance(one, (ast.Attribute, ast.Subscript)) and isinstance(one.ctx, (ast.Store, ast.Del)) and not own and not fresh:
+                    yield ast.unparse(node)
+        if isinstance(node, ast.Call) and isinstance(node.func, ast.Attribute) and node.func.attr in CHANGING:
+            if not isinstance(node.func.value, ast.Name) or node.func.value.id not in made:
+                yield ast.unparse(node)
 
 
 class LanguageTest(unittest.TestCase):
@@ -173,6 +255,71 @@ class LanguageTest(unittest.TestCase):
             bound = [name for name in names_bound(tree) if name not in {node.name for node in tree.body if isinstance(node, ast.ClassDef)}]
             self.assertFalse(taken & set(bound), path)
 
+    def test_only_own_errors_are_caught(self):
+        errors = set(INTERFACE["errors"])
+        for path, tree in trees():
+            for node in ast.walk(tree):
+                if isinstance(node, ast.Try):
+                    self.assertEqual((node.finalbody, node.orelse), ([], []))
+                    self.assertLessEqual({ast.unparse(one.type) for one in node.handlers}, errors, path)
+
+    def test_what_looks_changes_nothing(self):
+        """Operators, properties and the like, and all that they call."""
+        todo = []
+        for node in classes():
+            for each in node.body:
+                if isinstance(each, ast.FunctionDef):
+                    operator = each.name.startswith("__") and each.name not in ("__init__", "__call__", "__iter__")
+                    shown = any(isinstance(one, ast.Name) and one.id == "property" for one in each.decorator_list)
+                    if operator or shown or each.name in LOOKING:
+                        todo.append(each)
+        self.assertGreater(len(todo), 25)
+        done, names = {}, set()
+        while todo:
+            function = todo.pop()
+            if id(function) in done or (function.name, function.lineno) in names:
+                continue
+            done[id(function)] = function
+            names.add((function.name, function.lineno))
+            self.assertEqual(list(changes_in(function)), [], function.name)
+            for node in ast.walk(function):
+                if isinstance(node, ast.Call):
+                    called = node.func.id if isinstance(node.func, ast.Name) else node.func.attr
+                    given = {one.arg for one in function.args.args}
+                    self.assertFalse(isinstance(node.func, ast.Name) and called in given, (function.name, called))
+                    todo.extend(functions_of(called))
+        self.assertLessEqual({"steps_from", "reached", "room_days", "pushing_day", "step_row", "integer_text", "is_open"}, {name for name, _ in names})
+
+    def test_names_of_methods_and_attributes(self):
+        """Generators have names of their own, and no method or property has the name of an attribute."""
+        generators, others, attributes, methods = [], set(), set(), set()
+        for _, tree in trees():
+            for node in ast.walk(tree):
+                if isinstance(node, ast.FunctionDef):
+                    if any(isinstance(one, (ast.Yield, ast.YieldFrom)) for one in ast.walk(node)):
+                        generators.append(node.name)
+                    else:
+                        others.add(node.name)
+                elif isinstance(node, ast.Attribute) and isinstance(node.ctx, ast.Store):
+                    attributes.add(node.attr)
+                elif isinstance(node, ast.ClassDef):
+                    methods |= {each.name for each in node.body if isinstance(each, ast.FunctionDef)}
+        self.assertEqual(len(generators), len(set(generators)))
+        self.assertFalse(set(generators) & (others | METHODS))
+        self.assertEqual(attributes & methods, set())
+
+    def test_reversed_and_brackets(self):
+        """A class has brackets: so reversed takes a plain list or range."""
+        for path, tree in trees():
+            for node in ast.walk(tree):
+                if isinstance(node, ast.Call) and isinstance(node.func, ast.Name) and node.func.id == "reversed":
+                    inner = node.args[0]
+                    self.assertTrue(isinstance(inner, ast.Call) and inner.func.id in ("list", "tuple", "sorted", "range"), path)
+        for node in classes():
+            methods = {each.name for each in node.body if isinstance(each, ast.FunctionDef)}
+            self.assertNotIn("keys", methods)
+            self.assertIs("__getitem__" in methods, "__iter__" in methods)
+
     def test_module_level(self):
         for path, tree in trees():
             for node in tree.body:
@@ -230,6 +377,8 @@ class LanguageTest(unittest.TestCase):
         }.items():
             for name in names:
                 self.assertTrue(inspect.isgeneratorfunction(getattr(importlib.import_module(f"centbook.{module}"), name)))
+        for name in ("choices", "days"):
+            self.assertTrue(inspect.isgeneratorfunction(getattr(importlib.import_module("centbook.books").Book, name)))
 
 
 if __name__ == "__main__":
